@@ -1,8 +1,11 @@
-"""What the tests share: answers told apart by kind too, small keys and rows, things of other kinds."""
+"""What the tests share: answers told apart by kind too, small keys and rows, things of other kinds, the tree played."""
 
 import copy
 import itertools
+import os.path
 import unittest
+
+from mergetree.errors import Full, NoRow, OutOfOrder
 
 OTHER_KINDS = [
     True, False, None, 0, 1, -1, 7, 10 ** 30,
@@ -33,10 +36,31 @@ def small_rows(keys, most):
     return [some for some in small_lists(keys, most) if some == sorted(some)]
 
 
+def lists_in(thing):
+    """All lists within a thing, itself too."""
+    found = [thing] if isinstance(thing, list) else []
+    if isinstance(thing, (list, tuple)):
+        for part in thing:
+            found += lists_in(part)
+    return found
+
+
+def spoil(thing):
+    """Changes all lists within a thing."""
+    for each in lists_in(thing):
+        each.reverse()
+        each.append("changed")
+
+
 class Case(unittest.TestCase):
     def told(self, got, wanted):
         """An answer is the wanted one, also in its kinds: True is not 1, a tuple no list."""
         self.assertEqual(repr(got), repr(wanted))
+
+    def own(self, *things):
+        """No list within these things is one and the same as another one."""
+        found = [id(each) for thing in things for each in lists_in(thing)]
+        self.assertEqual(len(set(found)), len(found), things)
 
     def keeps(self, ask, *handed):
         """Asking twice tells the same, changes nothing handed in, and tells lists of its own."""
@@ -48,18 +72,155 @@ class Case(unittest.TestCase):
         second = ask(*handed)
         self.told(second, kept)
         self.told(handed, ahead)
-        if isinstance(first, list):
-            self.assertIsNot(first, second)
-            for thing in handed:
-                self.assertIsNot(first, thing)
-            first.reverse()
-            first.append("changed")
-            self.told(second, kept)
-            self.told(handed, ahead)
-            self.told(ask(*handed), kept)
-        for thing in handed:
-            if isinstance(thing, list):
-                thing.append("changed")
-                thing.reverse()
+        self.own(first, second, handed)
+        spoil(first)
+        self.told(second, kept)
+        self.told(handed, ahead)
+        self.told(ask(*handed), kept)
+        spoil(handed)
         self.told(second, kept)
         self.told(ask(*ahead), kept)
+
+
+def alike_signs(one, other):
+    """How many signs two keys have alike from the front on."""
+    return len(os.path.commonprefix([one, other]))
+
+
+def break_in(keys):
+    """The place of the first key that is less than the one ahead, None where there is none."""
+    return next((at for at in range(1, len(keys)) if keys[at] < keys[at - 1]), None)
+
+
+class Played:
+    """A merge by the words of points [6] to [8]: each match keeps its sides, what it sent up and what stays.
+
+    How far keys are alike is reckoned anew from the keys each time. A deed tells what a Merge is to tell,
+    or a refusal's name with its fields.
+    """
+
+    def __init__(self, rows):
+        self.rows = {number: list(row) for number, row in enumerate(rows)}
+        self.gone = {number: 0 for number in self.rows}
+        self.next_number = len(rows)
+        self.likenings = 0
+        self.looks = 0
+        self.play_all()
+
+    def state(self):
+        """All that can be asked without a deed."""
+        heads = [(number, sent and sent[2]) for number, sent in ((n, self.sends(n)) for n in sorted(self.rows))]
+        left = sum(len(self.rows[number]) - self.gone[number] for number in self.rows)
+        return (self.tree and self.tree["up"], left, heads, self.likenings, self.looks)
+
+    def sends(self, number):
+        place = self.gone[number]
+        return (number, place, self.rows[number][place]) if place < len(self.rows[number]) else None
+
+    def play_all(self):
+        self.tree = self.played(sorted(self.rows)) if self.rows else None
+
+    def played(self, numbers):
+        """The tree of these rows, played from the lowest on."""
+        if len(numbers) == 1:
+            return {"numbers": numbers, "sides": (), "up": self.sends(numbers[0]), "stays": None}
+        many = len(numbers) // 2 + len(numbers) % 2
+        sides = (self.played(numbers[:many]), self.played(numbers[many:]))
+        tree = {"numbers": numbers, "sides": sides}
+        self.match(tree, sides[0]["up"], sides[1]["up"], None)
+        return tree
+
+    def play_again(self, tree, goer):
+        """Plays the matches on the way of the one that goes out again, from the lowest on."""
+        if not tree["sides"]:
+            tree["up"] = self.sends(goer[0])
+            return
+        first, rest = tree["sides"]
+        if goer[0] in first["numbers"]:
+            assert tree["stays"] == rest["up"]
+            self.play_again(first, goer)
+            self.match(tree, first["up"], tree["stays"], goer)
+        else:
+            assert tree["stays"] == first["up"]
+            self.play_again(rest, goer)
+            self.match(tree, tree["stays"], rest["up"], goer)
+
+    def match(self, tree, one, other, goer):
+        """What the first side and the other one send meets; of a first play there is no goer."""
+        if one is None or other is None:
+            tree["up"], tree["stays"] = one or other, None
+            return
+        self.likenings += 1
+        wins = one[2] <= other[2]
+        far = alike_signs(one[2], other[2])
+        if goer is None:
+            self.looks += far + 1
+        else:
+            one_far, other_far = alike_signs(one[2], goer[2]), alike_signs(other[2], goer[2])
+            if one_far == other_far:
+                self.looks += far - one_far + 1
+            else:
+                assert wins == (one_far > other_far)
+        tree["up"], tree["stays"] = (one, other) if wins else (other, one)
+
+    def take(self):
+        goer = self.tree and self.tree["up"]
+        if goer:
+            self.gone[goer[0]] += 1
+            self.play_again(self.tree, goer)
+        return goer
+
+    def take_few(self, many):
+        return [thing for thing in (self.take() for time in range(many)) if thing]
+
+    def add_row(self, row):
+        number = self.next_number
+        if break_in(row) is not None:
+            return ("OutOfOrder", number, break_in(row))
+        if len(self.rows) >= 16:
+            return ("Full",)
+        self.next_number += 1
+        self.rows[number] = list(row)
+        self.gone[number] = 0
+        self.play_all()
+        return number
+
+    def drop_row(self, number):
+        if number not in self.rows:
+            return ("NoRow",)
+        many = len(self.rows.pop(number)) - self.gone.pop(number)
+        self.play_all()
+        return many
+
+    def grow(self, number, keys):
+        if number not in self.rows:
+            return ("NoRow",)
+        row = self.rows[number] + keys
+        if break_in(row) is not None:
+            return ("OutOfOrder", number, break_in(row))
+        anew = self.sends(number) is None and keys != []
+        self.rows[number] = row
+        if anew:
+            self.play_all()
+        return None
+
+
+def state_of(merge):
+    """All that can be asked of a Merge without a deed, as Played tells it."""
+    return (merge.coming(), merge.left(), merge.heads(), merge.likenings(), merge.looks())
+
+
+def outcome(deed, *handed):
+    """What a deed tells, or its refusal as Played tells it."""
+    try:
+        return deed(*handed)
+    except OutOfOrder as refusal:
+        return ("OutOfOrder", refusal.row, refusal.place)
+    except (Full, NoRow) as refusal:
+        return (refusal.__class__.__name__,)
+
+
+def some_row(random, most, signs="ab", length=4):
+    """A row of at most so many keys; random is the test's own, with a seed."""
+    many = random.randint(0, most)
+    return sorted("".join(random.choices(signs, k=random.randint(0, length))) for time in range(many))

@@ -26,6 +26,9 @@ NO_FORMS = (
     ast.Import)
 
 
+VALUE_NAMES = {"count", "index", "title", "find", "get", "join", "lower", "upper", "split", "strip", "copy", "add"}
+
+
 def files():
     """Each file of the package with its text and its tree."""
     for path in sorted(PACKAGE.glob("*.py")):
@@ -99,6 +102,38 @@ class LanguageTest(unittest.TestCase):
             for node in ast.walk(tree):
                 if isinstance(node, ast.Name):
                     self.assertNotIn(node.id, others, path)
+
+    def test_own_methods_and_values(self):
+        python_has = {name for kind in (str, int, list, tuple, dict, set, bytes) for name in dir(kind)}
+        methods, values = set(), set()
+        for path, text, tree in files():
+            for node in ast.walk(tree):
+                if isinstance(node, ast.ClassDef):
+                    methods |= {each.name for each in node.body if isinstance(each, ast.FunctionDef)} - OWN_METHODS
+                if isinstance(node, ast.Attribute) and isinstance(node.ctx, ast.Store):
+                    values.add(node.attr)
+        self.assertEqual(methods & values, set())
+        self.assertEqual((values & python_has) - VALUE_NAMES, set())
+        self.assertEqual(methods & python_has, set())
+
+    def test_locals_are_called_like_no_import_and_no_class(self):
+        for path, text, tree in files():
+            taken = {name.name for each in tree.body if isinstance(each, ast.ImportFrom) for name in each.names}
+            taken |= {each.name for each in tree.body if isinstance(each, ast.ClassDef)} | set(dir(builtins))
+            for node in ast.walk(tree):
+                if isinstance(node, ast.Name) and isinstance(node.ctx, ast.Store):
+                    self.assertNotIn(node.id, taken, path)
+                if isinstance(node, ast.arg):
+                    self.assertNotIn(node.arg, taken, path)
+
+    def test_no_two_files_draw_from_one_another(self):
+        draws = {path.stem: {each.module.split(".")[1] for each in tree.body if isinstance(each, ast.ImportFrom)}
+                 for path, text, tree in files()}
+        while draws:
+            free = [name for name, drawn in draws.items() if not drawn & set(draws)]
+            self.assertNotEqual(free, [], draws)
+            for name in free:
+                del draws[name]
 
 
 if __name__ == "__main__":
