@@ -163,27 +163,27 @@ class Merge:
         row.gone += 1
         # Beside what comes up stands how far it is alike with the one that goes out.
         comer = None if row.head() is None else (number, row.fars[row.gone])
-        for match in matches_up(list(self.rows), number):
-            comer = self.play_again(match, comer)
+        for meeting in matches_up(list(self.rows), number):
+            comer = self.play_again(meeting, comer)
         self.best = None if comer is None else comer[0]
 
-    def play_again(self, match, comer):
+    def play_again(self, meeting, comer):
         """Plays a match of what comes up and what stays, both (row, far) or None: tells what is sent up."""
-        stayer = self.stays.get(match)
+        stayer = self.stays.get(meeting)
         if stayer is None:
             return comer
         if comer is None:
-            self.stays[match] = None
+            self.stays[meeting] = None
             return stayer
         if comer[1] == stayer[1]:
             winner, loser, far = self.meet(comer[0], stayer[0], comer[1])
-            self.stays[match] = (loser, far)
+            self.stays[meeting] = (loser, far)
             return (winner, comer[1])
         self.likened += 1
         # The one that leaves the goer earlier is the greater, and leaves the other one at that place too.
         if comer[1] > stayer[1]:
             return comer
-        self.stays[match] = comer
+        self.stays[meeting] = comer
         return stayer
 
     def meet(self, one, other, far):
