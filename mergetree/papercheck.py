@@ -1,6 +1,6 @@
 """The small checker of papers: whether one shows that a row's key comes next."""
 
-from mergetree.kinds import is_number
+from mergetree.kinds import is_number, is_triple
 from mergetree.likening import liken_from
 
 
@@ -16,17 +16,10 @@ def shows_next(heads, n, thing):
     # The rows known not to be less than n's key: only these may win.
     ahead = {n: True}
     for entry in thing:
-        if not is_entry(entry) or not shows_greater(keyed, ahead, entry):
+        if not is_triple(entry) or not shows_greater(keyed, ahead, entry):
             return False
         ahead[entry[0]] = True
     return len(ahead) == len(keyed)
-
-
-def is_entry(thing):
-    """Whether a thing is a tuple of three numbers."""
-    if not isinstance(thing, tuple) or len(thing) != 3:
-        return False
-    return is_number(thing[0]) and is_number(thing[1]) and is_number(thing[2])
 
 
 def shows_greater(keyed, ahead, entry):

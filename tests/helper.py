@@ -1,4 +1,4 @@
-"""What the tests share: answers told apart by kind too, small keys and rows, things of other kinds, the tree played."""
+"""What the tests share: answers told apart by kind too, small things, things of other kinds, the words played."""
 
 import copy
 import itertools
@@ -224,3 +224,85 @@ def some_row(random, most, signs="ab", length=4):
     """A row of at most so many keys; random is the test's own, with a seed."""
     many = random.randint(0, most)
     return sorted("".join(random.choices(signs, k=random.randint(0, length))) for time in range(many))
+
+
+def is_paper(heads, n, thing):
+    """Whether a list of tuples of three numbers is a paper for row n, by the words of point [10]."""
+    keyed = dict(heads)
+    others = [row for row, key in heads if key is not None and row != n]
+    if n is None:
+        return all(key is None for row, key in heads) and thing == []
+    if keyed.get(n) is None or sorted(row for row, winner, far in thing) != others:
+        return False
+    for at, (row, winner, far) in enumerate(thing):
+        if winner != n and winner not in [ahead for ahead, by, much in thing[:at]]:
+            return False
+        key, less = keyed[row], keyed[winner]
+        if far < 0 or far > len(key) or far > len(less) or key[:far] != less[:far]:
+            return False
+        greater = far < len(key) and far < len(less) and key[far] > less[far]
+        longer = far == len(less) and far < len(key)
+        both_end = far == len(key) and far == len(less) and winner < row
+        if not (greater or longer or both_end):
+            return False
+    return True
+
+
+def leaves(tree):
+    """The numbers of a tree of merges from the left to the right."""
+    return [number for part in tree for number in leaves(part)] if isinstance(tree, tuple) else [tree]
+
+
+def tree_cost(sizes, tree):
+    """The cost of a tree of merges, by the words of point [12]."""
+    if not isinstance(tree, tuple):
+        return 0
+    return sum(sizes[number] for number in leaves(tree)) + sum(tree_cost(sizes, part) for part in tree)
+
+
+def cuts(row, ways):
+    """All ways to cut a list into two to ways parts."""
+    for many in range(1, ways):
+        for places in itertools.combinations(range(1, len(row)), many):
+            ends = (0,) + places + (len(row),)
+            yield [row[begin:end] for begin, end in itertools.pairwise(ends)]
+
+
+def near_trees(numbers, ways):
+    """All near trees over rising numbers."""
+    if len(numbers) == 1:
+        return [numbers[0]]
+    return [tree for parts in cuts(numbers, ways)
+            for tree in itertools.product(*(near_trees(part, ways) for part in parts))]
+
+
+def shared_out(numbers, most):
+    """All ways to share numbers out to one to so many parts, the parts in no order."""
+    if not numbers:
+        return [[]]
+    shares = []
+    for parts in shared_out(numbers[1:], most):
+        shares += [parts[:at] + [[numbers[0]] + parts[at]] + parts[at + 1:] for at in range(len(parts))]
+        if len(parts) < most:
+            shares.append([[numbers[0]]] + parts)
+    return shares
+
+
+def all_trees(numbers, ways):
+    """All trees of merges over numbers, the parts of a tuple in no order."""
+    if len(numbers) == 1:
+        return [numbers[0]]
+    return [tree for parts in shared_out(numbers, ways) if len(parts) > 1
+            for tree in itertools.product(*(all_trees(part, ways) for part in parts))]
+
+
+def least_prices(sizes, ways):
+    """The list of prices by the words of point [13]: of all cuts of a stretch the least one, the short ones first."""
+    numbers = list(range(len(sizes)))
+    least = {}
+    for many in range(1, len(sizes) + 1):
+        for begin in range(len(sizes) - many + 1):
+            stretch = numbers[begin:begin + many]
+            sums = [sum(least[part[0], part[-1] + 1] for part in parts) for parts in cuts(stretch, ways)]
+            least[begin, begin + many] = sum(sizes[begin:begin + many]) + min(sums) if sums else 0
+    return [(begin, end, least[begin, end]) for begin, end in sorted(least)]

@@ -9,7 +9,11 @@ FUNCTIONS = {
     "rows": {"is_row": "thing", "first_break": "keys", "alikes": "row", "two_merged": "one other"},
     "halves": {"halves": "numbers", "way_up": "numbers n", "height": "many"},
     "whole": {"merged": "rows", "merged_keys": "rows", "counts": "rows", "bounds_of": "rows"},
+    "papers": {"next_of": "heads", "paper_of": "heads"},
     "papercheck": {"shows_next": "heads n thing", "signs_in": "paper"},
+    "runs": {"stretches": "things", "runs_of": "things room", "is_run": "things thing"},
+    "plans": {"is_plan": "sizes ways thing", "cost_of": "sizes tree", "free_plan": "sizes ways"},
+    "nearcheck": {"shows_near": "sizes ways tree prices"},
 }
 
 CLASSES = {

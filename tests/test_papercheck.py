@@ -5,35 +5,13 @@ import random
 
 from mergetree.merge import Merge
 from mergetree.papercheck import shows_next, signs_in
-from tests.helper import OTHER_KINDS, Case, alike_signs, nested, small_keys
+from tests.helper import OTHER_KINDS, Case, alike_signs, is_paper, nested, small_keys
 
 HEADS = [(0, "abd"), (2, "abc"), (3, None), (5, "b"), (6, "abc"), (9, "abcz")]
 # By the least row alone.
 BY_LEAST = [(0, 2, 2), (5, 2, 0), (6, 2, 3), (9, 2, 3)]
 # Each by the row just less.
 BY_NEAREST = [(6, 2, 3), (9, 6, 3), (0, 9, 2), (5, 0, 0)]
-
-
-def is_paper(heads, n, thing):
-    """What shows_next is to tell of papers made of numbers, by the words."""
-    keyed = dict(heads)
-    others = [row for row, key in heads if key is not None and row != n]
-    if n is None:
-        return all(key is None for row, key in heads) and thing == []
-    if keyed.get(n) is None or sorted(row for row, winner, far in thing) != others:
-        return False
-    for at, (row, winner, far) in enumerate(thing):
-        if winner != n and winner not in [ahead for ahead, by, much in thing[:at]]:
-            return False
-        key, less = keyed[row], keyed[winner]
-        if far < 0 or far > len(key) or far > len(less) or key[:far] != less[:far]:
-            return False
-        greater = far < len(key) and far < len(less) and key[far] > less[far]
-        longer = far == len(less) and far < len(key)
-        both_end = far == len(key) and far == len(less) and winner < row
-        if not (greater or longer or both_end):
-            return False
-    return True
 
 
 def paper_by(heads, rank):
