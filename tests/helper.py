@@ -248,6 +248,22 @@ def is_paper(heads, n, thing):
     return True
 
 
+def played_runs(things, room):
+    """The runs by the words of point [11]: those that are in stand in a dict by number, with the run each is for."""
+    waiting = list(enumerate(things))
+    inside = {number: 0 for number, key in waiting[:room]}
+    del waiting[:room]
+    gone = []
+    while inside:
+        goer = sorted(inside, key=lambda number: (inside[number], things[number], number))[0]
+        run = inside.pop(goer)
+        gone.append((run, goer))
+        if waiting:
+            number, key = waiting.pop(0)
+            inside[number] = run + 1 if key < things[goer] else run
+    return [[number for of, number in group] for run, group in itertools.groupby(gone, key=lambda each: each[0])]
+
+
 def leaves(tree):
     """The numbers of a tree of merges from the left to the right."""
     return [number for part in tree for number in leaves(part)] if isinstance(tree, tuple) else [tree]
@@ -294,6 +310,21 @@ def all_trees(numbers, ways):
         return [numbers[0]]
     return [tree for parts in shared_out(numbers, ways) if len(parts) > 1
             for tree in itertools.product(*(all_trees(part, ways) for part in parts))]
+
+
+def played_free(sizes, ways):
+    """The free plan by the words of point [12]: what is there stands in a dict by number, as (size, tree)."""
+    there = {number: (size, number) for number, size in enumerate(sizes)}
+    cost, number, first = 0, len(sizes), True
+    while len(there) > 1:
+        many = 2 + (len(sizes) - 2) % (ways - 1) if first else ways
+        least = sorted(there, key=lambda each: (there[each][0], each))[:many]
+        assert len(least) == many
+        taken = [there.pop(each) for each in least]
+        size = sum(each[0] for each in taken)
+        there[number] = (size, tuple(each[1] for each in taken))
+        cost, number, first = cost + size, number + 1, False
+    return cost, list(there.values())[0][1]
 
 
 def least_prices(sizes, ways):

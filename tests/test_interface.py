@@ -1,4 +1,4 @@
-"""The interface: what has landed is there under its names, with its arguments."""
+"""The interface: all of it is there under its names, with its arguments."""
 
 import importlib
 import inspect
@@ -13,7 +13,10 @@ FUNCTIONS = {
     "papercheck": {"shows_next": "heads n thing", "signs_in": "paper"},
     "runs": {"stretches": "things", "runs_of": "things room", "is_run": "things thing"},
     "plans": {"is_plan": "sizes ways thing", "cost_of": "sizes tree", "free_plan": "sizes ways"},
+    "nearplans": {"near_plan": "sizes ways", "prices_for": "sizes ways"},
     "nearcheck": {"shows_near": "sizes ways tree prices"},
+    "sorting": {"merged_by": "things runs tree", "sort_by": "things room ways", "is_sorted": "things thing"},
+    "sheet": {"run": "text"},
 }
 
 CLASSES = {

@@ -4,7 +4,7 @@ import itertools
 import random
 
 from mergetree.plans import cost_of, free_plan, is_plan
-from tests.helper import OTHER_KINDS, Case, all_trees, leaves, near_trees, nested, tree_cost
+from tests.helper import OTHER_KINDS, Case, all_trees, leaves, near_trees, nested, played_free, tree_cost
 
 MOST = 10 ** 9
 
@@ -27,21 +27,6 @@ def few_sizes():
         yield from ([0] * many, [1] * many, [MOST] * many, list(range(many)), [2 ** at for at in range(many)])
         for time in range(4):
             yield [source.randint(0, source.choice((2, 9, MOST))) for at in range(many)]
-
-
-def played_free(sizes, ways):
-    """The pair by the words: what is there stands in a dict by number, as (size, tree)."""
-    there = {number: (size, number) for number, size in enumerate(sizes)}
-    cost, number, first = 0, len(sizes), True
-    while len(there) > 1:
-        many = 2 + (len(sizes) - 2) % (ways - 1) if first else ways
-        least = sorted(there, key=lambda each: (there[each][0], each))[:many]
-        assert len(least) == many
-        taken = [there.pop(each) for each in least]
-        size = sum(each[0] for each in taken)
-        there[number] = (size, tuple(each[1] for each in taken))
-        cost, number, first = cost + size, number + 1, False
-    return cost, list(there.values())[0][1]
 
 
 def wanted_plan(sizes, ways, thing):

@@ -4,7 +4,7 @@ import itertools
 import random
 
 from mergetree.runs import is_run, runs_of, stretches
-from tests.helper import OTHER_KINDS, Case, nested, small_lists
+from tests.helper import OTHER_KINDS, Case, nested, played_runs, small_lists
 
 FALLING = ["f", "e", "d", "c", "b", "a"]
 RISING = ["", "a", "ab", "b", "ba", "c"]
@@ -21,22 +21,6 @@ def some_things():
     for many in list(range(2, 62, 3)) + [60, 61, 64]:
         for signs in ("a", "ab", "abcdefgh"):
             yield ["".join(source.choices(signs, k=source.randint(0, 4))) for at in range(many)]
-
-
-def played_runs(things, room):
-    """The runs by the words: those that are in stand in a dict by number, with the run each is for."""
-    waiting = list(enumerate(things))
-    inside = {number: 0 for number, key in waiting[:room]}
-    del waiting[:room]
-    gone = []
-    while inside:
-        goer = sorted(inside, key=lambda number: (inside[number], things[number], number))[0]
-        run = inside.pop(goer)
-        gone.append((run, goer))
-        if waiting:
-            number, key = waiting.pop(0)
-            inside[number] = run + 1 if key < things[goer] else run
-    return [[number for of, number in group] for run, group in itertools.groupby(gone, key=lambda each: each[0])]
 
 
 class StretchesTest(Case):
